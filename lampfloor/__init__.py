@@ -1,0 +1,1 @@
+"""Lampfloor: who sees whom on floors of cells."""
