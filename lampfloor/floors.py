@@ -1,6 +1,6 @@
 """Floors (wide, high, walls), and their cells (x, y)."""
 
-from lampfloor.errors import OffFloor
+from lampfloor.errors import InWall, OffFloor
 
 LONGEST_SIDE = 12
 
@@ -50,6 +50,11 @@ def is_solid(floor, cell):
     return cell in floor[2]
 
 
+def refuse_not_open(floor, cell):
+    if is_solid(floor, cell):
+        raise InWall(f"there is a wall at {cell!r}")
+
+
 def all_cells(floor):
     cells = []
     for x in range(floor[0]):
@@ -59,6 +64,11 @@ def all_cells(floor):
 
 def open_cells(floor):
     return sorted(set(all_cells(floor)) - set(floor[2]))
+
+
+def marked(things):
+    # A dict is asked much faster than a list or a tuple whether it holds a thing.
+    return dict([(thing, True) for thing in things])
 
 
 def with_solid(floor, cell):

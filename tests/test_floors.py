@@ -3,6 +3,7 @@
 import copy
 import unittest
 
+from helper import DEEP, NO_TUPLES, cells_beyond, whole_area
 from lampfloor.errors import LampError, OffFloor
 from lampfloor.floors import (
     flipped,
@@ -32,28 +33,6 @@ SINGLE_FULL = (1, 1, ((0, 0),))
 LARGEST = (12, 12, ((0, 0), (0, 11), (5, 6), (11, 0), (11, 11)))
 
 FLOORS = [WIDE, HIGH, BARE, FULL, SINGLE, SINGLE_FULL, LARGEST, (12, 1, ((3, 0),)), (1, 12, ((0, 3),))]
-
-
-def nested(make, depth):
-    thing = make([0])
-    for _ in range(depth):
-        thing = make([thing])
-    return thing
-
-
-NO_TUPLES = [None, True, False, 0, 1, -1, 12, "", "#", "(3, 2, ())", [], [3, 2, ()], [[]], [None], [0, 0], "ab", "abc"]
-DEEP = [nested(make, depth) for make in (list, tuple) for depth in (1, 2, 9, 10, 11)]
-
-
-def whole_area(floor):
-    return [(x, y) for x in range(floor[0]) for y in range(floor[1])]
-
-
-def cells_beyond(floor):
-    wide, high = floor[0], floor[1]
-    rim = [(x, y) for x in (-1, wide) for y in range(-1, high + 1)]
-    rim += [(x, y) for x in range(wide) for y in (-1, high)]
-    return rim + [(-wide, 0), (0, -high), (wide + 100, 0), (0, high + 100), (10 ** 20, 0), (0, -(10 ** 20))]
 
 
 class IsFloor(unittest.TestCase):

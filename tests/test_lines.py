@@ -1,54 +1,12 @@
 """Promises 2.1, 2.2, and 0.2 (a) and 0.3 as far as they speak of lines."""
 
 import unittest
-from fractions import Fraction
 
-from lampfloor.lines import crossed, pinched
+from helper import slow_crossed, slow_pinched
+from lampfloor.lines import crossed, meets, pinched
 
-HALF = Fraction(1, 2)
 SPAN = range(-7, 8)
 CENTRES = [(0, 0), (-3, 5), (4, -9)]
-
-
-def inside_piece(start, way, low):
-    """The part of the line, from 0 to 1, that lies between low and low + 1 in one of the two directions."""
-    if way == 0:
-        return (Fraction(0), Fraction(1)) if low < start < low + 1 else None
-    ends = sorted([(low - start) / way, (low + 1 - start) / way])
-    return (max(ends[0], Fraction(0)), min(ends[1], Fraction(1)))
-
-
-def box(one, other):
-    xs = range(min(one[0], other[0]) - 1, max(one[0], other[0]) + 2)
-    ys = range(min(one[1], other[1]) - 1, max(one[1], other[1]) + 2)
-    return [(x, y) for x in xs for y in ys]
-
-
-def slow_crossed(one, other):
-    """By the words of 2.1: each cell by itself, whether a piece of the line lies inside it."""
-    if one == other:
-        return [one]
-    found = []
-    for x, y in box(one, other):
-        in_x = inside_piece(one[0] + HALF, other[0] - one[0], x)
-        in_y = inside_piece(one[1] + HALF, other[1] - one[1], y)
-        if in_x and in_y and max(in_x[0], in_y[0]) < min(in_x[1], in_y[1]):
-            found.append((max(in_x[0], in_y[0]), (x, y)))
-    return [cell for _, cell in sorted(found)]
-
-
-def slow_pinched(one, other):
-    """By the words of 2.2: each corner by itself, whether the line goes through it."""
-    through = slow_crossed(one, other)
-    way_x, way_y = other[0] - one[0], other[1] - one[1]
-    found = []
-    for x, y in box(one, other):
-        off_x, off_y = x - one[0] - HALF, y - one[1] - HALF
-        along = off_x * way_x + off_y * way_y
-        if off_x * way_y == off_y * way_x and 0 <= along <= way_x * way_x + way_y * way_y and (way_x or way_y):
-            around = [(x - 1, y - 1), (x - 1, y), (x, y - 1), (x, y)]
-            found.append((along, tuple(cell for cell in around if cell not in through)))
-    return [couple for _, couple in sorted(found)]
 
 
 def lines():
@@ -147,6 +105,17 @@ class AgainstTheWords(unittest.TestCase):
                 self.assertIsInstance(couple, tuple)
                 self.assertEqual(len(couple), 2)
                 self.assertLess(couple[0], couple[1])
+
+
+class Meets(unittest.TestCase):
+    def test_what_is_crossed_or_pinched(self):
+        for one, other in lines():
+            if abs(other[0] - one[0]) > 5 or abs(other[1] - one[1]) > 5 or one == other:
+                continue
+            met = crossed(one, other) + [cell for couple in pinched(one, other) for cell in couple]
+            for x in range(one[0] - 7, one[0] + 8):
+                for y in range(one[1] - 7, one[1] + 8):
+                    self.assertIs(meets(one, other, (x, y)), (x, y) in met, (one, other, x, y))
 
 
 class ForAllLines(unittest.TestCase):
