@@ -1,4 +1,4 @@
-"""What several tests need: floors, wrong things, and slow readings of the document's words to hold the program against."""
+"""What several tests need: floors, wrong things, and slow readings of the document's words."""
 
 import random
 from fractions import Fraction
@@ -153,3 +153,38 @@ def mirror_cell(floor, cell):
 
 def flip_cell(floor, cell):
     return (cell[1], cell[0])
+
+
+STEPS = {"n": (0, -1), "e": (1, 0), "s": (0, 1), "w": (-1, 0)}
+
+
+def gone(cell, way):
+    """All cells stood on along a way."""
+    cells = [cell]
+    for word in way:
+        cells.append((cells[-1][0] + STEPS[word][0], cells[-1][1] + STEPS[word][1]))
+    return cells
+
+
+def slow_far(ground, goal):
+    """How many steps each cell of the ground is from the goal, over the ground alone."""
+    far = {goal: 0}
+    for _ in ground:
+        for cell in ground:
+            nears = [far[there] + 1 for there in (gone(cell, word)[1] for word in STEPS) if there in far]
+            if nears:
+                far[cell] = min(nears + [far.get(cell, nears[0])])
+    return far
+
+
+def slow_way(ground, one, other):
+    """The first of the shortest ways over the ground, or None."""
+    far = slow_far(ground, other)
+    if one not in far:
+        return None
+    way = ""
+    cell = one
+    while cell != other:
+        way += [word for word in STEPS if far.get(gone(cell, word)[1]) == far[cell] - 1][0]
+        cell = gone(one, way)[-1]
+    return way
