@@ -16,6 +16,10 @@ def all_beside(cell):
     return [beside(cell, word) for word in STEPS]
 
 
+def steps_over(ground, cell):
+    return [(word, beside(cell, word)) for word in STEPS if beside(cell, word) in ground]
+
+
 def stepped(floor, cell, word):
     if word not in STEPS:
         raise NoStep(f"{word!r} is no step")
@@ -32,9 +36,8 @@ def ways_over(ground, start):
     while reached != []:
         farther = []
         for cell in reached:
-            for word in STEPS:
-                there = beside(cell, word)
-                if there in ground and there not in ways:
+            for word, there in steps_over(ground, cell):
+                if there not in ways:
                     ways[there] = ways[cell] + word
                     farther.append(there)
         reached = farther
